@@ -1,0 +1,1 @@
+"""Nailhang: pictures hung by cords that go round nails."""
