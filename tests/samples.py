@@ -1,5 +1,7 @@
-"""What several test files need: things of every kind, and cords made by a fixed seed."""
+"""What several test files need: things of every kind, cords made by a fixed seed, and plain reckonings."""
 
+import copy
+import math
 import random
 
 THIRTY_FIGURES = 10 ** 30 - 1
@@ -98,3 +100,77 @@ def long_falling_cord(pieces):
     """A cord of so many pieces (an even number) that falls, but only from its middle on outwards."""
     half = [("abc"[k % 3], k % 7 + 1) for k in range(pieces // 2)]
     return half + turned_back(half)
+
+
+def short_cords(seed, number, most, nails="abc"):
+    """So many cords of at most so many pieces, with few turns, of few nails."""
+    chance = random.Random(seed)
+    return [
+        [(chance.choice(nails), chance.randint(-3, 3)) for _ in range(chance.randint(0, most))] for _ in range(number)
+    ]
+
+
+def random_row(chance, length, nails="abc"):
+    return "".join(chance.choice(nails) for _ in range(length))
+
+
+def random_runs(chance, number, nails="abc", most=3):
+    """A cord in short form of just so many runs."""
+    runs = []
+    while len(runs) < number:
+        nail = chance.choice(nails)
+        if not runs or runs[-1][0] != nail:
+            runs.append((nail, chance.choice([1, -1]) * chance.randint(1, most)))
+    return runs
+
+
+def led(leader, cord):
+    return leader + cord + turned_back(leader)
+
+
+def plain_single(turns, count):
+    """n (n - 1) .. (n - k + 1) / (1 * 2 * .. * k), as point 8 writes it."""
+    product = math.prod(turns - k for k in range(count))
+    whole, rest = divmod(product, math.factorial(count))
+    if rest:
+        raise ArithmeticError("no whole number")
+    return whole
+
+
+def plain_times(row, cord):
+    """How often a row stands in a cord, by all ways to cut it into one part for each piece."""
+    if not cord:
+        return 1 if row == "" else 0
+    nail, turns = cord[0]
+    total = 0
+    for count in range(len(row) + 1):
+        if row[:count] == nail * count:
+            total += plain_single(turns, count) * plain_times(row[count:], cord[1:])
+    return total
+
+
+def spoil(told):
+    """Changes all lists and dicts within what was told."""
+    if isinstance(told, (list, tuple)):
+        for part in told:
+            spoil(part)
+    if isinstance(told, list):
+        told.append("spoiled")
+        told.reverse()
+    if isinstance(told, dict):
+        told.clear()
+
+
+def check_nothing_changes(test, ask, *handed):
+    """Point 2: what is handed in stays, what is told is the asker's own, and what is done later is no matter."""
+    kept = copy.deepcopy(handed)
+    told = ask(*handed)
+    first = copy.deepcopy(told)
+    test.assertEqual(handed, kept)
+    spoil(told)
+    test.assertEqual(handed, kept)
+    again = ask(*handed)
+    test.assertEqual(again, first)
+    spoil(handed)
+    test.assertEqual(again, first)
+    test.assertEqual(ask(*kept), first)

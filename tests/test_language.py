@@ -4,6 +4,7 @@ Not every rule can be seen from here; those that can be seen plainly are, by the
 """
 
 import ast
+import builtins
 import pathlib
 import re
 import unittest
@@ -41,6 +42,11 @@ NODES = (
 )
 
 NOT_NODES = (ast.Div, ast.MatMult, ast.Starred)
+
+WALKS = {"zip", "enumerate", "reversed", "range"}
+WALK_METHODS = {"items", "keys", "values"}
+WALKERS = {"list", "tuple", "dict", "sorted", "sum", "any", "all", "enumerate", "zip", "min", "max"}
+SET_HOLDERS = {"sorted", "len"}
 
 
 def package_files():
@@ -144,6 +150,8 @@ def value_faults(node, names, own_methods):
         return "L7 value"
     if isinstance(node, ast.Constant) and isinstance(node.value, str) and "%" in node.value:
         return "L27 percent sign"
+    if isinstance(node, ast.BinOp) and isinstance(node.op, ast.Pow) and not isinstance(node.right, ast.Constant):
+        return "L27 exponent"
     if isinstance(node, ast.ListComp) and (len(node.generators) != 1 or len(node.generators[0].ifs) > 1):
         return "L7 comprehension"
     if isinstance(node, ast.Compare) and any(isinstance(op, (ast.Is, ast.IsNot)) for op in node.ops):
@@ -156,6 +164,56 @@ def value_faults(node, names, own_methods):
         if node.func.attr not in METHODS | own_methods:
             return f"L25 method {node.func.attr}"
     return None
+
+
+def called_name(node):
+    return node.func.id if isinstance(node, ast.Call) and isinstance(node.func, ast.Name) else None
+
+
+def is_walk(node):
+    if isinstance(node, ast.Call) and isinstance(node.func, ast.Attribute):
+        return node.func.attr in WALK_METHODS
+    return called_name(node) in WALKS
+
+
+def walk_faults(tree):
+    """What is made to be walked (L23) or is a set (L24) stands only where the rules let it stand."""
+    walked = []
+    held = []
+    for node in ast.walk(tree):
+        if isinstance(node, (ast.For, ast.comprehension)):
+            walked.append(node.iter)
+        elif isinstance(node, ast.Call) and called_name(node) in WALKERS:
+            walked += node.args if called_name(node) == "zip" else node.args[:1]
+        if isinstance(node, ast.Call) and called_name(node) in SET_HOLDERS and not node.keywords:
+            held += ast.walk(node.args[0])
+        elif isinstance(node, ast.Compare):
+            held += [node.left] + node.comparators
+    faults = []
+    for node in ast.walk(tree):
+        if is_walk(node) and node not in walked:
+            faults.append(f"L23 kept, line {node.lineno}")
+        if called_name(node) in ("set", "frozenset") and node not in held:
+            faults.append(f"L24 a set kept, line {node.lineno}")
+    return faults
+
+
+def local_names(function):
+    names = [node for node in ast.walk(function) if isinstance(node, ast.Name)]
+    stored = [node.id for node in names if isinstance(node.ctx, ast.Store)]
+    return [arg.arg for arg in function.args.args] + stored
+
+
+def local_faults(tree):
+    """L15: no parameter and no local is called like an import, a class or a name of Python's own."""
+    taken = set(dir(builtins))
+    for node in tree.body:
+        if isinstance(node, ast.ImportFrom):
+            taken |= {alias.name for alias in node.names}
+        elif isinstance(node, ast.ClassDef):
+            taken.add(node.name)
+    functions = [node for node in ast.walk(tree) if isinstance(node, ast.FunctionDef)]
+    return [f"L15 {name} in {node.name}" for node in functions for name in local_names(node) if name in taken]
 
 
 def own_methods_of(trees):
@@ -201,6 +259,8 @@ class LanguageTest(unittest.TestCase):
                 self.assertEqual(text_faults(path.read_text(encoding="utf-8")), [])
                 self.assertEqual(tree_faults(tree, own_methods), [])
                 self.assertEqual(top_faults(tree), [])
+                self.assertEqual(walk_faults(tree), [])
+                self.assertEqual(local_faults(tree), [])
 
     def test_faults_are_seen(self):
         for source in (
@@ -208,10 +268,15 @@ class LanguageTest(unittest.TestCase):
             "x = {k for k in [1]}", "def f():\n    yield 1", "x = open", "def f(xs):\n    xs.sort()",
             "def f(x, y):\n    return x is y", "for k in [1]:\n    pass\nelse:\n    pass", "class A:\n    x = 1",
             "def f(len):\n    pass", "def f():\n    _ = 1", "def f(x: int):\n    pass", "x = '50%'",
+            "def f(n):\n    return 2 ** n", "def f(d):\n    return d.items()", "def f(n):\n    xs = range(n)",
+            "def f(n):\n    for k in reversed(range(n)):\n        pass", "def f(xs):\n    ys = set(xs)",
+            "def f(xs):\n    for x in set(xs):\n        pass", "def f(hash):\n    pass", "def f():\n    round = 1",
+            "from nailhang.cords import joined\ndef f():\n    joined = 1",
         ):
             with self.subTest(source=source):
                 tree = ast.parse(source)
-                self.assertNotEqual(tree_faults(tree, set()) + top_faults(tree), [])
+                faults = tree_faults(tree, set()) + top_faults(tree) + walk_faults(tree) + local_faults(tree)
+                self.assertNotEqual(faults, [])
         for source in ("# a type", "x = '\u00e9'", "\tpass", "x" * 121, "\n" * 401, "# overloaded"):
             with self.subTest(source=source):
                 self.assertNotEqual(text_faults(source), [])

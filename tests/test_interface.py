@@ -1,0 +1,30 @@
+import importlib
+import inspect
+import unittest
+
+NAMES = {
+    "cords": {
+        "is_nail": ["thing"], "check_cord": ["thing"], "short_form": ["cord"], "is_fall": ["cord"],
+        "are_one": ["one", "other"], "joined": ["one", "other"], "contrary": ["cord"],
+    },
+    "blocks": {"blocks_of": ["cord"]},
+    "counting": {"times_in": ["row", "cord"], "rows_in": ["cord", "length"]},
+    "witness": {"row_of": ["cord"], "why_hangs": ["cord"], "told_apart": ["one", "other"]},
+    "merging": {"merged_rows": ["row", "second"]},
+    "rings": {"loosened": ["cord"], "ring_of": ["cord"], "leader": ["one", "other"]},
+}
+
+
+class InterfaceTest(unittest.TestCase):
+    """The names and arguments as the document's interface tells them."""
+
+    def test_names_and_arguments(self):
+        for module, functions in NAMES.items():
+            for name, arguments in functions.items():
+                with self.subTest(module=module, name=name):
+                    function = getattr(importlib.import_module(f"nailhang.{module}"), name)
+                    self.assertEqual(list(inspect.signature(function).parameters), arguments)
+
+
+if __name__ == "__main__":
+    unittest.main()
