@@ -28,6 +28,13 @@ SPOILED_PIECES = [
     ("a", "b"),
 ]
 
+# No set of nails: what is a text of letters from a to z alone is left out.
+NO_SETS = [
+    None, True, False, 0, 1, -1, 97, 10 ** 40, 1.5, " ", "A", "Z", "`", "{", "0", "-", "a ", " a", "a\n", "\n", "\t",
+    "a b", "aB", "a1", "a,b", "\u00e9", "\u0430", (), ("a",), ("a", "b"), ("a", 1), [], ["a"], ["a", "b"], [None],
+    [("a", 1)], {}, {"a": 1}, {"a": True, "b": True},
+]
+
 
 def random_turns(chance):
     return chance.choice([

@@ -12,6 +12,11 @@ NAMES = {
     "witness": {"row_of": ["cord"], "why_hangs": ["cord"], "told_apart": ["one", "other"]},
     "merging": {"merged_rows": ["row", "second"]},
     "rings": {"loosened": ["cord"], "ring_of": ["cord"], "leader": ["one", "other"]},
+    "powers": {"power": ["cord", "times"], "root_of": ["cord"], "common_root": ["one", "other"]},
+    "drawing": {
+        "set_of": ["nails"], "nails_of": ["cord"], "without": ["cord", "nails"], "falls_without": ["cord", "nails"],
+    },
+    "families": {"least_sets": ["family"], "meeting_sets": ["family"]},
 }
 
 
