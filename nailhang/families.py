@@ -56,6 +56,15 @@ def all_sets(nails):
     return sets
 
 
+def check_many(nails):
+    if len(nails) > MOST_NAILS:
+        raise TooMany("there are at most ten nails in all")
+
+
+def nails_among(sets):
+    return set_of("".join(sets))
+
+
 def least_sets(family):
     return least_of([set_of(nails) for nails in family])
 
@@ -63,7 +72,6 @@ def least_sets(family):
 def meeting_sets(family):
     # The family's things are looked at first: what is no set is refused ahead of too many nails.
     others = [bits_of(nails) for nails in least_sets(family)]
-    nails = set_of("".join(family))
-    if len(nails) > MOST_NAILS:
-        raise TooMany("a family has at most ten nails in all")
+    nails = nails_among(family)
+    check_many(nails)
     return least_of([chosen for chosen in all_sets(nails) if meets_each(bits_of(chosen), others)])

@@ -1,10 +1,14 @@
 """What several test files need: things of every kind, cords made by a fixed seed, and plain reckonings."""
 
 import copy
+import itertools
 import math
 import random
 
+from nailhang.errors import HangError
+
 THIRTY_FIGURES = 10 ** 30 - 1
+LETTERS = "abcdefghijklmnopqrstuvwxyz"
 
 # No nail, and no cord either: the cord without pieces is left out.
 THINGS = [
@@ -33,6 +37,22 @@ NO_SETS = [
     None, True, False, 0, 1, -1, 97, 10 ** 40, 1.5, " ", "A", "Z", "`", "{", "0", "-", "a ", " a", "a\n", "\n", "\t",
     "a b", "aB", "a1", "a,b", "\u00e9", "\u0430", (), ("a",), ("a", "b"), ("a", 1), [], ["a"], ["a", "b"], [None],
     [("a", 1)], {}, {"a": 1}, {"a": True, "b": True},
+]
+
+# A rule's nails in any order and more than once are no rule, though they are sets of nails.
+NO_RULES = [
+    # no list
+    None, True, False, 0, 1, -7, 10 ** 40, 1.5, "", "a", "ab", "a b", (), ("a",), ("a", "b"), {}, {"a": "b"},
+    {"a": True}, {0: "a"},
+    # no sets, a set without nails
+    [], [""], ["", "a"], ["a", ""], ["", ""], ["ab", ""],
+    # letters twice or out of order
+    ["aa"], ["ba"], ["abb"], ["a", "cb"], ["acb"], ["zz"], ["aba"], ["b" * 30],
+    # a set twice, sets out of order
+    ["a", "a"], ["ab", "ab"], ["a", "bc", "bc"], ["b", "a"], ["bc", "a"], ["ac", "ab"], ["abc", "de"],
+    ["a", "bd", "bc"], ["z", "bc", "y"],
+    # a set that has another one as a part
+    ["a", "ab"], ["ab", "abc"], ["ab", "cd", "acd"], ["b", "abc"], ["a", "bc", "bcd"], ["z", LETTERS],
 ]
 
 
@@ -154,6 +174,53 @@ def plain_times(row, cord):
         if row[:count] == nail * count:
             total += plain_single(turns, count) * plain_times(row[count:], cord[1:])
     return total
+
+
+def told_order(sets):
+    return sorted(sets, key=lambda nails: (len(nails), nails))
+
+
+def plain_sets(nails):
+    """All sets of these nails, in the told order."""
+    letters = sorted(set(nails))
+    return ["".join(chosen) for k in range(len(letters) + 1) for chosen in itertools.combinations(letters, k)]
+
+
+def plain_least(family):
+    sets = {"".join(sorted(set(nails))) for nails in family}
+    return told_order(one for one in sets if not any(set(other) < set(one) for other in sets))
+
+
+def no_rules():
+    spoiled = [[thing] for thing in NO_SETS] + [["a", thing] for thing in NO_SETS]
+    return NO_RULES + spoiled + [[thing, "a"] for thing in NO_SETS] + [["a", "bc", ["b"]], [["a"], ["b"]]]
+
+
+def rules(seed=121, number=150, nails="abcdefg"):
+    """Rules of all kinds with few nails, each made of the least ones of some sets."""
+    chance = random.Random(seed)
+    found = [["a"], ["g"], ["ab"], ["a", "b"], ["ab", "ac", "bc"], ["a", "bc"], ["abcdefg"], list("abcdefg")]
+    while len(found) < number:
+        some = "".join(chance.sample(nails, chance.randint(1, len(nails))))
+        sizes = chance.choice([(1, 2), (1, 4), (2, 3), (3, 5)])
+        sets = [random_row(chance, chance.randint(*sizes), some) for _ in range(chance.randint(1, 7))]
+        found.append(plain_least(sets))
+    return found
+
+
+def plain_breaks(rule, nails):
+    return any(set(one) <= set(nails) for one in rule)
+
+
+def refusal_of(ask, *handed):
+    """The class of the refusal, or None where there is none; any other error is a fault."""
+    try:
+        ask(*handed)
+    except HangError as refusal:
+        if not isinstance(refusal, ValueError):
+            raise AssertionError("a refusal that is no ValueError") from refusal
+        return type(refusal)
+    return None
 
 
 def spoil(told):

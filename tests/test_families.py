@@ -3,26 +3,16 @@ import random
 import unittest
 
 import samples
-from nailhang.errors import HangError, NoNails, TooMany
+from nailhang.errors import NoNails, TooMany
 from nailhang.families import least_sets, meeting_sets
 
 LETTERS = "abcdefghijklmnopqrstuvwxyz"
 
 
-def told_order(sets):
-    return sorted(sets, key=lambda nails: (len(nails), nails))
-
-
-def plain_least(family):
-    sets = {"".join(sorted(set(nails))) for nails in family}
-    return told_order(one for one in sets if not any(set(other) < set(one) for other in sets))
-
-
 def plain_meeting(family):
     """All sets of the family's nails are tried."""
-    nails = sorted(set("".join(family)))
-    tried = ["".join(chosen) for length in range(len(nails) + 1) for chosen in itertools.combinations(nails, length)]
-    return plain_least([one for one in tried if all(set(one) & set(other) for other in family)])
+    tried = samples.plain_sets("".join(family))
+    return samples.plain_least([one for one in tried if all(set(one) & set(other) for other in family)])
 
 
 def families():
@@ -33,14 +23,6 @@ def families():
         sizes = chance.choice([(1, 2), (1, 4), (2, 3), (0, 5)])
         found.append([samples.random_row(chance, chance.randint(*sizes), nails) for _ in range(chance.randint(1, 8))])
     return found
-
-
-def refusal_of(ask, family):
-    try:
-        ask(family)
-    except HangError as refusal:
-        return type(refusal)
-    return None
 
 
 class LeastSetsTest(unittest.TestCase):
@@ -68,7 +50,7 @@ class LeastSetsTest(unittest.TestCase):
         for family in families():
             told = least_sets(family)
             self.assertIs(type(told), list)
-            self.assertEqual(told, plain_least(family), family)
+            self.assertEqual(told, samples.plain_least(family), family)
             self.assertEqual(least_sets(told), told)
 
     def test_the_order_in_which_sets_and_letters_are_handed_in_is_no_matter(self):
@@ -135,27 +117,27 @@ class RefusalsTest(unittest.TestCase):
         for thing in samples.NO_SETS:
             for family in ([thing], ["a", thing], [thing, "a"], ["", "ab", thing, "b"]):
                 with self.subTest(family=family):
-                    self.assertIs(refusal_of(least_sets, family), NoNails)
-                    self.assertIs(refusal_of(meeting_sets, family), NoNails)
+                    self.assertIs(samples.refusal_of(least_sets, family), NoNails)
+                    self.assertIs(samples.refusal_of(meeting_sets, family), NoNails)
 
     def test_eleven_nails(self):
         for family in (["abcdefghijk"], list("abcdefghijk"), ["abcdef", "ghijk"], ["a", "abcdefghijk"], [LETTERS],
                        ["", "abcdefghijk"], ["kjihgfedcba", "ka"], ["z" * 9, "abcdefghij"]):
             with self.subTest(family=family):
-                self.assertIs(refusal_of(meeting_sets, family), TooMany)
-                self.assertIsNone(refusal_of(least_sets, family))
+                self.assertIs(samples.refusal_of(meeting_sets, family), TooMany)
+                self.assertIsNone(samples.refusal_of(least_sets, family))
 
     def test_ten_nails_are_not_too_many(self):
         for family in (["abcdefghij"], list("qrstuvwxyz"), ["abcdef", "ghij", "aj"], ["a" * 50, "abcdefghij" * 5],
                        ["", "abcdefghij"]):
-            self.assertIsNone(refusal_of(meeting_sets, family))
+            self.assertIsNone(samples.refusal_of(meeting_sets, family))
 
     def test_no_nails_is_due_ahead_of_too_many(self):
         for thing in (None, "A", 5, True, ["a"], "a b"):
             for family in (["abcdefghijk", thing], [thing, "abcdefghijk"], list(LETTERS) + [thing]):
-                self.assertIs(refusal_of(meeting_sets, family), NoNails)
-                self.assertIs(refusal_of(least_sets, family), NoNails)
-        self.assertIs(refusal_of(meeting_sets, ["abcdefghijkL"]), NoNails)
+                self.assertIs(samples.refusal_of(meeting_sets, family), NoNails)
+                self.assertIs(samples.refusal_of(least_sets, family), NoNails)
+        self.assertIs(samples.refusal_of(meeting_sets, ["abcdefghijkL"]), NoNails)
 
 
 class NothingChangesTest(unittest.TestCase):
@@ -167,7 +149,7 @@ class NothingChangesTest(unittest.TestCase):
     def test_what_is_refused_stays_as_it_was(self):
         for family in (["abcdefghijk", "ba"], ["ba", ["a"]]):
             kept = repr(family)
-            self.assertIsNotNone(refusal_of(meeting_sets, family))
+            self.assertIsNotNone(samples.refusal_of(meeting_sets, family))
             self.assertEqual(repr(family), kept)
 
 

@@ -17,6 +17,13 @@ NAMES = {
         "set_of": ["nails"], "nails_of": ["cord"], "without": ["cord", "nails"], "falls_without": ["cord", "nails"],
     },
     "families": {"least_sets": ["family"], "meeting_sets": ["family"]},
+    "falling": {"falling_sets": ["cord"], "holding_sets": ["cord"]},
+    "rules": {
+        "check_rule": ["thing"], "breaks": ["rule", "nails"], "both_rules": ["rule", "second"],
+        "either_rule": ["rule", "second"], "turned_rule": ["rule"], "at_least": ["nails", "number"],
+    },
+    "rulebook": {"rule_text": ["rule"], "read_rule": ["text"]},
+    "making": {"round_back": ["nails"], "pieces_needed": ["rule"], "cord_of": ["rule"], "rule_of": ["cord"]},
 }
 
 
