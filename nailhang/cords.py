@@ -2,6 +2,8 @@
 
 from nailhang.errors import NoCord
 
+LONGEST = 4000
+
 
 def is_nail(thing):
     return isinstance(thing, str) and len(thing) == 1 and "a" <= thing <= "z"
@@ -52,3 +54,11 @@ def joined(one, other):
 
 def contrary(cord):
     return [(nail, -turns) for nail, turns in reversed(cord)]
+
+
+def repeated(cord, times):
+    return (contrary(cord) if times < 0 else cord) * abs(times)
+
+
+def there_and_back(one, other):
+    return one + other + contrary(one) + contrary(other)

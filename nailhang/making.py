@@ -1,6 +1,6 @@
 """Making: cords that fall just by a rule, and the rules of cords."""
 
-from nailhang.cords import contrary, is_fall, joined
+from nailhang.cords import is_fall, joined, there_and_back
 from nailhang.drawing import set_of
 from nailhang.errors import NoNails, NoRule, TooLong
 from nailhang.falling import falling_sets
@@ -18,9 +18,7 @@ def halves_round(nails):
     if len(nails) == 1:
         return [(nails, 1)]
     middle = first_half(len(nails))
-    first = halves_round(nails[:middle])
-    second = halves_round(nails[middle:])
-    return joined(joined(first, second), joined(contrary(first), contrary(second)))
+    return there_and_back(halves_round(nails[:middle]), halves_round(nails[middle:]))
 
 
 def round_back(nails):

@@ -1,10 +1,8 @@
 """Powers: cords joined with themselves, their roots, cords that change places."""
 
-from nailhang.cords import contrary, joined, short_form
+from nailhang.cords import LONGEST, contrary, joined, repeated, short_form
 from nailhang.errors import TooLong
 from nailhang.rings import loosened
-
-MOST_RUNS = 4000
 
 
 def power(cord, times):
@@ -12,11 +10,9 @@ def power(cord, times):
     if len(runs) < 2:
         # However many times: it stays one run, so nothing gets long.
         return short_form([(nail, turns * times) for nail, turns in runs])
-    if abs(times) * len(runs) > MOST_RUNS:
+    if abs(times) * len(runs) > LONGEST:
         raise TooLong("a power has at most 4000 runs side by side")
-    if times < 0:
-        runs = contrary(runs)
-    return short_form(runs * abs(times))
+    return short_form(repeated(runs, times))
 
 
 def part_length(runs):

@@ -24,6 +24,22 @@ NAMES = {
     },
     "rulebook": {"rule_text": ["rule"], "read_rule": ["text"]},
     "making": {"round_back": ["nails"], "pieces_needed": ["rule"], "cord_of": ["rule"], "rule_of": ["cord"]},
+    "terms": {
+        "Term": [], "Piece": ["nail", "turns"], "Parts": ["parts"], "Times": ["body", "number"],
+        "Back": ["one", "other"],
+    },
+    "reading": {"read": ["text"], "written": ["cord"]},
+    "slides": {"moved": ["cord", "moves"], "back_moves": ["moves"]},
+    "gallery": {"Gallery": []},
+}
+
+METHODS = {
+    ("terms", "Term"): {"pieces": [], "cord": [], "text": []},
+    ("terms", "Piece"): {"pieces": [], "cord": [], "text": []},
+    ("terms", "Parts"): {"pieces": [], "cord": [], "text": []},
+    ("terms", "Times"): {"pieces": [], "cord": [], "text": []},
+    ("terms", "Back"): {"pieces": [], "cord": [], "text": []},
+    ("gallery", "Gallery"): {"say": ["row"]},
 }
 
 
@@ -36,6 +52,18 @@ class InterfaceTest(unittest.TestCase):
                 with self.subTest(module=module, name=name):
                     function = getattr(importlib.import_module(f"nailhang.{module}"), name)
                     self.assertEqual(list(inspect.signature(function).parameters), arguments)
+
+    def test_methods(self):
+        for (module, name), methods in METHODS.items():
+            made_by = getattr(importlib.import_module(f"nailhang.{module}"), name)
+            for method, arguments in methods.items():
+                parameters = inspect.signature(getattr(made_by, method)).parameters
+                self.assertEqual(list(parameters), ["self"] + arguments)
+
+    def test_terms_stand_under_term(self):
+        terms = importlib.import_module("nailhang.terms")
+        for name in ("Piece", "Parts", "Times", "Back"):
+            self.assertIn(terms.Term, getattr(terms, name).__bases__)
 
 
 if __name__ == "__main__":

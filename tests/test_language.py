@@ -43,6 +43,8 @@ NODES = (
 
 NOT_NODES = (ast.Div, ast.MatMult, ast.Starred)
 
+OWN_VALUES = set("count index title find get join lower upper split strip copy add".split())
+
 WALKS = {"zip", "enumerate", "reversed", "range"}
 WALK_METHODS = {"items", "keys", "values"}
 WALKERS = {"list", "tuple", "dict", "sorted", "sum", "any", "all", "enumerate", "zip", "min", "max"}
@@ -221,6 +223,21 @@ def own_methods_of(trees):
     return {part.name for node in classes for part in node.body if isinstance(part, ast.FunctionDef)}
 
 
+def own_values_of(trees):
+    stored = [node for tree in trees for node in ast.walk(tree) if isinstance(node, ast.Attribute)]
+    return {node.attr for node in stored if isinstance(node.ctx, ast.Store)}
+
+
+def own_name_faults(trees):
+    """L18 and L26: no name is both a method and a value, and none is like one of Python's own values'."""
+    methods, values = own_methods_of(trees) - DOUBLE_UNDERSCORE, own_values_of(trees)
+    python = {name for kind in (str, int, list, dict, set, bytes, tuple) for name in dir(kind)}
+    faults = [f"L18 {name} is a method and a value" for name in sorted(methods & values)]
+    return faults + [f"L26 {name}" for name in sorted((methods - METHODS - {"add", "discard"}) & python)] + [
+        f"L26 {name}" for name in sorted((values - OWN_VALUES) & python)
+    ]
+
+
 def tree_faults(tree, own_methods):
     faults = []
     names = bound_names(tree)
@@ -261,6 +278,12 @@ class LanguageTest(unittest.TestCase):
                 self.assertEqual(top_faults(tree), [])
                 self.assertEqual(walk_faults(tree), [])
                 self.assertEqual(local_faults(tree), [])
+
+    def test_methods_and_values_have_names_of_their_own(self):
+        self.assertEqual(own_name_faults([ast.parse(path.read_text()) for path in package_files()]), [])
+        for source in ("class A:\n    def f(self):\n        self.f = 1", "class A:\n    def sort(self):\n        pass",
+                       "class A:\n    def f(self):\n        self.items = 1"):
+            self.assertNotEqual(own_name_faults([ast.parse(source)]), [])
 
     def test_faults_are_seen(self):
         for source in (
